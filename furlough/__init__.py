@@ -1,0 +1,1 @@
+"""Leaveroll: leaves granted by rank, as long as all posts are manned."""
