@@ -4,25 +4,7 @@ import random
 import unittest
 
 from furlough.mannings import is_manning, manning_of
-
-SIXTY = 10 ** 60 - 1
-
-
-def subsets(things):
-    for size in range(len(things) + 1):
-        for some in itertools.combinations(things, size):
-            yield list(some)
-
-
-def lack_by_hand(able, hands, some):
-    return len(some) - sum(1 for hand in hands if set(able[hand]) & set(some))
-
-
-def least_sets_with_greatest_lack(posts, able, hands):
-    """The greatest lack, and all sets of posts that have it, those with the fewest posts first."""
-    lacks = [(lack_by_hand(able, hands, some), some) for some in subsets(range(posts))]
-    greatest = max(lack for lack, some in lacks)
-    return greatest, [some for lack, some in lacks if lack == greatest]
+from helpers import SIXTY, chance_house, least_sets_with_greatest_lack, small_houses, subsets
 
 
 def is_manning_by_hand(posts, able, hands, places):
@@ -30,20 +12,6 @@ def is_manning_by_hand(posts, able, hands, places):
         list(stand) == places and all(post in able[hand] for post, hand in enumerate(stand))
         for stand in itertools.permutations(hands, posts)
     )
-
-
-def small_houses(most_posts, most_hands):
-    for posts in range(most_posts + 1):
-        rows = list(subsets(range(posts)))
-        for hands in range(1, most_hands + 1):
-            for able in itertools.product(rows, repeat=hands):
-                yield posts, [list(row) for row in able]
-
-
-def chance_house(chance, posts, hands, odds):
-    able = [[post for post in range(posts) if chance.random() < odds] for hand in range(hands)]
-    some = [hand for hand in range(hands) if chance.random() < 0.8]
-    return able, some
 
 
 class ManningCase(unittest.TestCase):
